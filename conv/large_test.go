@@ -164,6 +164,47 @@ func TestP15_1AtTheLimit(t *testing.T) {
 	}
 }
 
+// Large terms are the same only where all of each node is.
+func TestP15_1LargeUnlike(t *testing.T) {
+	e, x := known(t), nested(deep)
+	odd := func(t api.Term) *api.Term { return &t }
+	for i, c := range [][2]*api.Term{
+		{pi(sort(0), x), lam(sort(0), x)},
+		{app(constant("f"), x), pi(constant("f"), x)},
+		{odd(api.Term{Kind: 9, A: x}), odd(api.Term{Kind: 8, A: x})},
+		{odd(api.Term{Kind: 9, A: x}), odd(api.Term{Kind: 9, B: x})},
+		{odd(api.Term{Kind: 9, A: x}), odd(api.Term{Kind: 9, A: x, B: variable(0)})},
+		{odd(api.Term{Kind: 9, A: x}), odd(api.Term{Kind: 9, A: x, C: variable(0)})},
+		{odd(api.Term{Kind: 9, A: x}), odd(api.Term{Kind: 9, A: x, N: 1})},
+		{odd(api.Term{Kind: 9, A: x}), odd(api.Term{Kind: 9, A: x, Name: "a"})},
+		{odd(api.Term{Kind: 9, A: x}), odd(api.Term{Kind: 9, A: nested(deep - 1)})},
+		{x, nil},
+		{x, variable(0)},
+		{app(constant("a"), x), constant("a")},
+	} {
+		for _, up := range []bool{false, true} {
+			if got, _, err := conv.Conv(e, app(constant("f"), c[0]), app(constant("f"), c[1]), up, 10*deep); got || err != nil {
+				t.Errorf("row %d: %v, %v", i, got, err)
+			}
+			if got, _, err := conv.Conv(e, c[1], c[0], up, 10*deep); got || err != nil {
+				t.Errorf("row %d, the other way round: %v, %v", i, got, err)
+			}
+			if got, left, err := conv.Conv(e, c[0], c[0], up, 1); !got || left != 0 || err != nil {
+				t.Errorf("row %d, itself: %v, %v", i, got, err)
+			}
+		}
+	}
+}
+
+// nested is so many functions in one another, around a variable around them.
+func nested(levels int) *api.Term {
+	t := variable(levels)
+	for range levels {
+		t = lam(constant("a"), t)
+	}
+	return t
+}
+
 // argsOf are a term's arguments, the last one first.
 func argsOf(t *api.Term) []*api.Term {
 	var l []*api.Term
@@ -302,6 +343,11 @@ func TestP15_1WhatIsNot(t *testing.T) {
 		}
 	}
 	e := known(t)
+	// A recursor is a constant.
+	for kind := -1; kind < 9; kind++ {
+		f := &api.Term{Kind: kind, Name: "nat.rec"}
+		agree(t, e, apply(f, sort(0), sort(0), sort(0), constant("one")), apply(f, sort(0), sort(0), sort(0), app(constant("s"), constant("o"))), false, 40)
+	}
 	for _, a := range l {
 		for _, b := range l {
 			for _, up := range []bool{false, true} {
