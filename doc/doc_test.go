@@ -352,10 +352,10 @@ func TestP22_1FamilyCannotBeThere(t *testing.T) {
 		refuses(t, d, read("family f 1 : Type0 { c : f.rec -> f } ."), enough, api.ErrPos)
 		refuses(t, d, read("family f 1 : Type0 { c : f.rec -> zz } ."), enough, api.ErrName)
 	}
-	// Its name is too long.
+	// Its name is too long: then what has .rec behind it is no recursor.
 	d := made(t, "space "+strings.Repeat("x", 23)+" .")
 	refuses(t, d, x, enough, api.ErrForm)
-	refuses(t, d, rec, enough, api.ErrForm)
+	refuses(t, d, rec, enough, api.ErrName)
 	refuses(t, d, lacks, enough, api.ErrName)
 	refuses(t, d, read("family "+strings.Repeat("x", 24)+" 0 : Type0 { c : "+strings.Repeat("x", 24)+" } ."), enough, api.ErrForm)
 	// Its name is none.
@@ -366,11 +366,6 @@ func TestP22_1FamilyCannotBeThere(t *testing.T) {
 		y.Cons = nil
 		refuses(t, d, y, enough, api.ErrForm)
 	}
-	y := x
-	y.Name, y.Cons = "f.rec", []api.Con{{Name: "c", Type: constant("f.rec.rec")}}
-	refuses(t, d, y, enough, api.ErrForm)
-	y.Cons[0].Type = constant("f.rec")
-	refuses(t, d, y, enough, api.ErrName)
 	// There is no room.
 	lines := []string{"space a .", "section b ."}
 	for i := range api.MaxDecls {
@@ -382,6 +377,66 @@ func TestP22_1FamilyCannotBeThere(t *testing.T) {
 	refuses(t, d, lacks, enough, api.ErrName)
 	refuses(t, d, read("family f 0 : Type0 { c : x0 -> a.x199 -> a.f -> f } ."), enough, api.ErrFull)
 	refuses(t, d, read("family f 0 : Type0 { c : x0 x0 -> f } ."), enough, api.ErrFull)
+}
+
+// Of the whole name it is asked whether it is a recursor's, and of which family; not of what was said.
+func TestP22_1FamilyWholeNames(t *testing.T) {
+	long, short := strings.Repeat("x", 23), strings.Repeat("x", 22)
+	for _, c := range []struct {
+		ahead  []string // what was said ahead of it
+		family string
+		said   string // in its constructor's type
+		why    api.Errno
+	}{
+		// As long as a name may be.
+		{[]string{"space " + short + " ."}, "t", "t", api.OK},
+		{[]string{"space " + short[4:] + " ."}, "t", "t.rec", api.ErrPos},
+		{[]string{"space " + short[3:] + " ."}, "t", "t.rec", api.ErrForm}, // it is there, but no term may say it
+		{[]string{"space " + short + " ."}, "t", "t.rec", api.ErrForm},
+		{[]string{"space " + short + " ."}, "rec", "rec", api.ErrName},
+		// Longer by one, by whatever namespaces.
+		{[]string{"space " + long + " ."}, "t", "t", api.ErrForm},
+		{[]string{"space " + long + " ."}, "t", "t.rec", api.ErrName},
+		{[]string{"space " + short + " ."}, "tt", "tt.rec", api.ErrName},
+		{[]string{"space a .", "section s .", "space " + long[2:] + " ."}, "t", "t.rec", api.ErrName},
+		{[]string{"space a .", "section s .", "space " + long[2:] + " ."}, "t", long[2:] + ".t", api.ErrForm},
+		{[]string{"space a .", "section s .", "space " + long[3:] + " ."}, "t", long[3:] + ".t.rec", api.ErrForm},
+		// A name like a recursor's, which the whole one isn't like.
+		{[]string{"space " + long + " ."}, "t.rec", "t.rec", api.ErrForm},
+		{[]string{"space " + long + " ."}, "t.rec", "t.rec.rec", api.ErrName},
+		{[]string{"space " + long + " ."}, "t.rec", "t", api.ErrName},
+		{[]string{"space " + short + " ."}, "tt.rec", "tt.rec", api.ErrForm},
+		// A recursor's name: it is asked for the family of that, which is another one.
+		{[]string{"space " + short + " ."}, "t.rec", "t.rec", api.ErrName},
+		{nil, "t.rec", "t.rec", api.ErrName},
+		{[]string{"family t 0 : Type0 { } ."}, "t.rec", "t.rec", api.ErrForm},
+		{[]string{"axiom t : Type0 ."}, "t.rec", "t.rec", api.ErrName},
+		{nil, "t.rec", "t.rec.rec", api.ErrForm},
+		{[]string{"space t ."}, "rec", "rec", api.ErrName},
+		{[]string{"space t ."}, "rec", "t.rec", api.ErrName},
+		{[]string{"space t ."}, "rec", "rec.rec", api.ErrForm},
+		{[]string{"family t 0 : Type0 { } .", "space t ."}, "rec", "rec", api.ErrForm},
+		{[]string{"family t 0 : Type0 { } .", "space t ."}, "rec", "t.rec", api.ErrForm},
+		// Said so, it is the recursor's name in both namespaces, and in one of them like its own.
+		{[]string{"space a .", "space rec ."}, "rec", "rec.rec", api.ErrForm},
+		// Ahead of it stands what no name has.
+		{nil, "1", "rec", api.ErrName},
+	} {
+		d := made(t, c.ahead...)
+		x := api.Sentence{Kind: api.SFamily, Name: c.family, A: sort(0), Cons: []api.Con{{Name: "k", Type: constant(c.said)}}}
+		if c.why == api.OK {
+			done(t, d, x, enough)
+			continue
+		}
+		refuses(t, d, x, enough, c.why)
+	}
+	// Namespaces that are no names: with one of them ahead there is no recursor either.
+	for _, name := range []string{"", "1", "a b", "a."} {
+		d := done(t, doc.New(), api.Sentence{Kind: api.SSpace, Name: name}, enough)
+		for said, why := range map[string]api.Errno{"t": api.ErrForm, "t.rec": api.ErrName, "rec": api.ErrName} {
+			refuses(t, d, api.Sentence{Kind: api.SFamily, Name: "t", A: sort(0), Cons: []api.Con{{Name: "k", Type: constant(said)}}}, enough, why)
+		}
+	}
 }
 
 func TestP22_1Space(t *testing.T) {

@@ -42,6 +42,9 @@ func full(l []api.Open, name string) string {
 // there tells whether a declaration has a name, or is the family of a recursor.
 func there(l []api.Decl, whole string) bool {
 	rec := aRec.FindStringSubmatch(whole)
+	if rec != nil && !term.IsName(rec[1]) {
+		rec = nil // too long, as a rule
+	}
 	return slices.ContainsFunc(l, func(d api.Decl) bool {
 		return rec == nil && d.Name == whole || rec != nil && d.Name == rec[1] && d.Kind == api.DFamily
 	})
@@ -603,6 +606,46 @@ func TestP22_1Random(t *testing.T) {
 	}
 	if let < 60 || needing < 150 {
 		t.Errorf("%d sections changed what they left, %d families needed variables", let, needing)
+	}
+}
+
+// Families with names that are as long as they may be, or longer, and like recursors' ones.
+func TestP22_1RandomFamilyNames(t *testing.T) {
+	k := &maker{r: rand.New(rand.NewSource(222))}
+	outcomes := map[api.Errno]int{}
+	for range 4000 {
+		p := pair{d: doc.New()}
+		say := func(x api.Sentence) {
+			t.Helper()
+			var err error
+			p, _, err = p.do(t, x, 100)
+			if x.Kind == api.SFamily && len(x.Cons) > 0 {
+				outcomes[numberOf(err)]++
+			}
+		}
+		for range 1 + k.r.Intn(5) {
+			name := k.oneOf("t", "rec", "t", "rec", strings.Repeat("y", 15+k.r.Intn(9)))
+			say(api.Sentence{Kind: []int{api.SSpace, api.SSpace, api.SSpace, api.SSection, api.SFamily}[k.r.Intn(5)], Name: name, A: sort(0)})
+		}
+		x := api.Sentence{Kind: api.SFamily, Name: k.oneOf("t", "tt", "rec", "t.rec", "rec.t", "rec.rec"), A: sort(0)}
+		k.m = p.m
+		names := []string{x.Name, x.Name, "t", "t.rec", "rec", "rec.rec", "t.rec.rec"}
+		for i, o := range p.m.opens {
+			names = append(names, o.Name+"."+x.Name, full(p.m.opens[i:], x.Name))
+		}
+		for range 1 + k.r.Intn(2) {
+			a := constant(names[k.r.Intn(len(names))])
+			if k.oneIn(3) && !strings.HasSuffix(a.Name, ".rec.rec") {
+				a.Name += ".rec"
+			}
+			x.Cons = append(x.Cons, api.Con{Name: fmt.Sprint("k", len(x.Cons)), Type: a})
+		}
+		say(x)
+	}
+	for err, n := range map[api.Errno]int{api.OK: 50, api.ErrForm: 500, api.ErrName: 1000, api.ErrPos: 100} {
+		if outcomes[err] < n {
+			t.Errorf("%v: %d", err, outcomes[err])
+		}
 	}
 }
 

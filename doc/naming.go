@@ -2,6 +2,7 @@ package doc
 
 import (
 	"slices"
+	"strings"
 
 	"vademecum/api"
 	"vademecum/env"
@@ -120,12 +121,20 @@ func (n *naming) find(name string) (string, error) {
 
 // own tells the whole name, if a name may stand for the family or its recursor.
 func (n *naming) own(name string) (string, bool) {
-	family, rec := term.Rec(name)
+	for _, end := range []string{"", ".rec"} {
+		said, ok := strings.CutSuffix(name, end)
+		if ok && slices.Contains(n.short, said) && n.has(n.whole+end) {
+			return n.whole + end, true
+		}
+	}
+	return "", false
+}
+
+// has tells whether the family, were it there, would be found by a whole name. Only the whole name tells whether it is a recursor's: that may be another family's, and too long a one is none.
+func (n *naming) has(whole string) bool {
+	family, rec := term.Rec(whole)
 	if !rec {
-		family = name
+		family = whole
 	}
-	if !slices.Contains(n.short, family) {
-		return "", false
-	}
-	return n.whole + name[len(family):], true
+	return family == n.whole
 }
