@@ -23,9 +23,9 @@ func (p *Past) findMark(name string) (int, bool) {
 
 // setMark puts a mark where its name stands, or would stand.
 func (p *Past) setMark(i int, stands bool, m mark) {
+	behind := i
 	if stands {
-		p.marks[i] = m
-		return
+		behind++
 	}
-	p.marks = slices.Insert(p.marks, i, m)
+	p.marks = slices.Concat(p.marks[:i], []mark{m}, p.marks[behind:])
 }

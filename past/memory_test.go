@@ -103,6 +103,64 @@ func TestP23_2Apart(t *testing.T) {
 	holds(t, a, "another one", `3 in [0 3] marks ["m"]`, l[1])
 }
 
+// A copy is a past of its own, whatever is done to it or to the one that it was copied from.
+func TestP23_2CopiesAreApart(t *testing.T) {
+	l := several(t, 4)
+	const was = `5 in [0 1 4 5] marks ["a" "c" "gone"]`
+	made := func() *past.Past {
+		p := pushed(t, l[:2]...)
+		accepted(t, p.Mark("c"))
+		accepted(t, p.Push(l[2]))
+		accepted(t, p.Mark("gone"))
+		accepted(t, p.Undo(2))
+		accepted(t, p.Mark("a"))
+		accepted(t, p.Push(l[0]))
+		accepted(t, p.Push(l[1]))
+		return p
+	}
+	ways := map[string]func(p *past.Past){
+		"push":      func(p *past.Past) { accepted(t, p.Push(l[3])) },
+		"undo":      func(p *past.Past) { accepted(t, p.Undo(1)) },
+		"undo all":  func(p *past.Past) { accepted(t, p.Undo(3)) },
+		"back":      func(p *past.Past) { accepted(t, p.Back(1)) },
+		"restore":   func(p *past.Past) { accepted(t, p.Restore("a")) },
+		"mark":      func(p *past.Past) { accepted(t, p.Mark("b")) },
+		"mark last": func(p *past.Past) { accepted(t, p.Mark("x")) },
+		"mark anew": func(p *past.Past) { accepted(t, p.Mark("a")) },
+		"rebase":    func(p *past.Past) { p.Rebase(9) },
+	}
+	for first, one := range ways {
+		for second, other := range ways {
+			a, alone := made(), made()
+			holds(t, a, "made", was, l[1])
+			b := *a
+			one(a)
+			holds(t, &b, first+" to the other one", was, l[1])
+			other(&b)
+			one(alone)
+			// All that is told of it is as if there were no copy: its states, what marks stand for, which number is next.
+			for range 2 {
+				accepted(t, a.Push(l[2]))
+				accepted(t, b.Push(l[3]))
+				accepted(t, alone.Push(l[2]))
+				holds(t, a, first+", the copy "+second, tell(alone), alone.Now())
+				if got, want := a.Restore("a"), alone.Restore("a"); (got == nil) != (want == nil) {
+					t.Errorf("%s, the copy %s: %v, %v", first, second, got, want)
+				}
+				holds(t, a, first+", the copy "+second, tell(alone), alone.Now())
+			}
+			accepted(t, a.Push(l[0]))
+			accepted(t, b.Push(l[3]))
+			accepted(t, alone.Push(l[0]))
+			holds(t, a, first+", the copy "+second, tell(alone), alone.Now())
+			for a.Undo(1) == nil {
+				accepted(t, alone.Undo(1))
+				holds(t, a, first+", the copy "+second, tell(alone), alone.Now())
+			}
+		}
+	}
+}
+
 // A past may be asked by several at once.
 func TestP23_2AtOnce(t *testing.T) {
 	l := several(t, 20)

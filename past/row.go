@@ -38,7 +38,7 @@ func (p *Past) behindFirst(number int) (int, bool) {
 	return i + 1, i >= 0
 }
 
-// leave leaves so many states behind the first one. What goes isn't held in the room behind the list.
+// leave leaves so many states behind the first one, in a list that doesn't hold what goes.
 func (p *Past) leave(n int) {
-	p.later = slices.Delete(p.later, n, len(p.later))
+	p.later = slices.Concat(p.later[:n])
 }

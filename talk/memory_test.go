@@ -24,6 +24,25 @@ func TestP24_2Apart(t *testing.T) {
 	holds(t, b, "another one", `0 in [0] marks ["n"]`, doc.New())
 }
 
+// A copy is a talk of its own.
+func TestP24_2CopiesAreApart(t *testing.T) {
+	x := said(t, talk.New(enough), nats, "mark m .", "axiom n : nat .", "mark n .", "space a .", "undo 1 .")
+	for _, line := range []string{"axiom k : nat .", "undo 1 .", "back 0 .", "restore m .", "mark m .", "mark a .", "mark z ."} {
+		y := *x
+		said(t, &y, line, "space b .", "mark b .", "mark n .")
+		holds(t, x, line, `2 in [0 1 2] marks ["m" "n"]`, made(t, nats, "axiom n : nat ."))
+		z := *x
+		answers(t, &z, "section c .", 4, "")
+		answers(t, &z, "restore n .", 2, "")
+		answers(t, &z, "restore m .", 1, "")
+		refuses(t, &z, api.ErrState, "restore b .", "restore n .")
+	}
+	y := *x
+	y.Past().Rebase(30)
+	answers(t, x, "space b .", 4, "")
+	holds(t, &y, "rebased", "30 in [30] marks []", made(t, nats, "axiom n : nat ."))
+}
+
 // Whoever has an answer may write over it.
 func TestP24_2AnswersAreNew(t *testing.T) {
 	x := said(t, talk.New(enough), nats, "space a .", "mark b .", "mark c .")
